@@ -10,14 +10,7 @@ from chipyard.matrices import determinant, numerators
 def settled(ground, load, bank):
     checked_load(ground, load)
     checked_yard(ground, bank)
-    table = line_table(ground)
-    counts = counts_out_of_debt(table, load, bank)
-    burnt = burnt_yards(table, moved(ground, load, counts), bank)
-    while len(burnt) < len(table):
-        # The yards that don't burn have chips for all their lines to those that do: they can fire as one.
-        counts = [count if yard in burnt else count + 1 for yard, count in enumerate(counts)]
-        burnt = burnt_yards(table, moved(ground, load, counts), bank)
-    return (moved(ground, load, counts), counts)
+    return burnt_down(ground, load, counts_out_of_debt(line_table(ground), load, bank), bank)
 
 
 def burning(ground, load, bank):
@@ -53,6 +46,17 @@ def counts_out_of_debt(table, load, bank):
     parts = numerators(rows, [load[yard] - sum(table[yard]) for yard in yards_without(table, bank)])
     counts = [part // whole for part in parts]
     return counts[:bank] + [0] + counts[bank:]
+
+
+def burnt_down(ground, load, counts, bank):
+    # The counts must leave no debt without the bank.
+    table = line_table(ground)
+    burnt = burnt_yards(table, moved(ground, load, counts), bank)
+    while len(burnt) < len(table):
+        # The yards that don't burn have chips for all their lines to those that do: they can fire as one.
+        counts = [count if yard in burnt else count + 1 for yard, count in enumerate(counts)]
+        burnt = burnt_yards(table, moved(ground, load, counts), bank)
+    return (moved(ground, load, counts), counts)
 
 
 def inner_rows(table, bank):

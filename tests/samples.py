@@ -1,6 +1,6 @@
 """Grounds, loads and wrong things that several tests go through, and slow ways to look at them."""
 
-from itertools import combinations, product
+from itertools import combinations, combinations_with_replacement, product
 
 ONE = (1, ())
 PAIR = (2, ((0, 1, 1),))
@@ -96,10 +96,20 @@ def slow_settled(ground, load, bank):
     return True
 
 
+def all_lines(ground):
+    return [(a, b, k) for a, b, number in ground[1] for k in range(number)]
+
+
 def slow_trees(ground):
-    """How many trees there are, by trying every choice of lines."""
-    lines = [(a, b) for a, b, number in ground[1] for k in range(number)]
-    return sum(joins_all(ground[0], choice) for choice in combinations(lines, ground[0] - 1))
+    """Every tree, by trying every choice of lines."""
+    choices = combinations(all_lines(ground), ground[0] - 1)
+    return [list(choice) for choice in choices if joins_all(ground[0], [line[:2] for line in choice])]
+
+
+def all_takes(many, chips):
+    """Every load of many yards without debts, with so many chips."""
+    for yards in combinations_with_replacement(range(many), chips):
+        yield tuple(yards.count(yard) for yard in range(many))
 
 
 def joins_all(many, lines):

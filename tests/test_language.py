@@ -50,6 +50,11 @@ def bound_names(tree):
             yield node.id
 
 
+def top_names(tree):
+    given = [part.targets[0].id for part in tree.body if isinstance(part, ast.Assign)]
+    return given + [part.name for part in tree.body if isinstance(part, (ast.FunctionDef, ast.ClassDef))]
+
+
 class Files(unittest.TestCase):
     def test_l1_l14_plain_files(self):
         self.assertIn("__init__.py", [path.name for path in files()])
@@ -87,7 +92,7 @@ class Forms(unittest.TestCase):
                 file = dict(trees())[node.module.partition(".")[2] + ".py"]
                 for one in node.names:
                     self.assertIsNone(one.asname)
-                    self.assertIn(one.name, [part.name for part in file.body if hasattr(part, "name")])
+                    self.assertIn(one.name, top_names(file))
             drawn[name] = [node.module.partition(".")[2] + ".py" for node in rows]
         self.assertEqual(drawn["__init__.py"], [])
         while drawn:
@@ -101,8 +106,7 @@ class Forms(unittest.TestCase):
                 docstring = place == 0 and isinstance(node, ast.Expr) and isinstance(node.value, ast.Constant)
                 plain = isinstance(node, (ast.ImportFrom, ast.FunctionDef, ast.ClassDef, ast.Assign))
                 self.assertTrue(docstring or plain, (name, node.lineno))
-            top = [part.name for part in tree.body if hasattr(part, "name")]
-            self.assertEqual(len(top), len(set(top)), name)
+            self.assertEqual(len(top_names(tree)), len(set(top_names(tree))), name)
 
     def test_l4_l10_functions(self):
         for name, tree in trees():
@@ -132,6 +136,24 @@ class Forms(unittest.TestCase):
                     self.assertLessEqual(len(node.generators[0].ifs), 1)
                 if isinstance(node, ast.Constant):
                     self.assertIsInstance(node.value, (int, str, bool, type(None)))
+
+    def test_l7_l27_texts_and_numbers(self):
+        for name, tree in trees():
+            for node in ast.walk(tree):
+                if isinstance(node, ast.FormattedValue):
+                    self.assertIsInstance(node.value, ast.Name, (name, node.lineno))
+                    self.assertIsNone(node.format_spec)
+                if isinstance(node, ast.Constant) and isinstance(node.value, str):
+                    self.assertNotIn("%", node.value, (name, node.lineno))
+                self.assertNotIsInstance(getattr(node, "op", None), ast.Pow, name)
+
+    def test_l15_no_parameter_or_local_is_called_like_a_name_of_the_top(self):
+        for name, tree in trees():
+            top = top_names(tree)
+            for node in ast.walk(tree):
+                if isinstance(node, ast.FunctionDef):
+                    for word in set(bound_names(node)) - {node.name}:
+                        self.assertNotIn(word, top, (name, node.name))
 
     def test_l8_l12_l15_names(self):
         for name, tree in trees():

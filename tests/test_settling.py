@@ -163,7 +163,7 @@ class Burning(unittest.TestCase):
         for ground in list(small_grounds()) + [SQUARE, FULL_FOUR, TREE]:
             for bank in range(ground[0]):
                 found = [load for load in near_loads(ground, bank) if burning(ground, load, bank) is not None]
-                self.assertEqual(len(found), slow_trees(ground))
+                self.assertEqual(len(found), len(slow_trees(ground)))
         for ground in SMALL + (FULL_FOUR,):
             found = [load for load in near_loads(ground, 0) if burning(ground, load, 0) is not None]
             even = [with_bank(load, 0, -sum(load)) for load in found]
